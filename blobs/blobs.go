@@ -7,9 +7,6 @@ import (
 	"blobs/index"
 )
 
-// Disk is files.
-type Disk struct{}
-
 // Store is contents and tags on a disk.
 type Store struct{}
 
@@ -46,51 +43,6 @@ func placeOf(wrong any) int {
 	}
 	return int(place)
 }
-
-// NewDisk makes an empty disk (P6).
-func NewDisk(room int) *Disk { return nil }
-
-// Append writes at the end of a file (P7).
-func (d *Disk) Append(path string, b string) api.Errno { return api.OK }
-
-// Rename gives a file another path (P7).
-func (d *Disk) Rename(from string, to string) api.Errno { return api.OK }
-
-// Remove removes a file (P7).
-func (d *Disk) Remove(path string) api.Errno { return api.OK }
-
-// Truncate cuts a file (P7).
-func (d *Disk) Truncate(path string, n int) api.Errno { return api.OK }
-
-// Sync makes a file's bytes outlast a crash (P7).
-func (d *Disk) Sync(path string) api.Errno { return api.OK }
-
-// SyncDir makes all paths outlast a crash (P7).
-func (d *Disk) SyncDir() api.Errno { return api.OK }
-
-// Read tells what is in a file (P7).
-func (d *Disk) Read(path string) (string, api.Errno) { return "", api.OK }
-
-// List tells the paths (P7).
-func (d *Disk) List() ([]string, api.Errno) { return nil, api.OK }
-
-// Used tells how many bytes all files have (P7).
-func (d *Disk) Used() (int, api.Errno) { return 0, api.OK }
-
-// Steps tells how many calls have written (P7).
-func (d *Disk) Steps() (int, api.Errno) { return 0, api.OK }
-
-// Spoil changes a byte of a file (P8).
-func (d *Disk) Spoil(path string, at int, mask int) api.Errno { return api.OK }
-
-// Break lets the disk break (P8).
-func (d *Disk) Break(n int) api.Errno { return api.OK }
-
-// Crash loses what was not synced (P8).
-func (d *Disk) Crash(paths int, keep []int) api.Errno { return api.OK }
-
-// Copy makes another disk of what is on this one (P8).
-func (d *Disk) Copy() (*Disk, api.Errno) { return nil, api.OK }
 
 // Open opens the store on a disk (P9).
 func Open(d *Disk) (*Store, api.Errno) { return nil, api.OK }
