@@ -1,7 +1,10 @@
 // Package digest: digests as values, their text, and the hash that gives them.
 package digest
 
-import "strings"
+import (
+	"bytes"
+	"strings"
+)
 
 // Size is how many bytes a digest has.
 const Size = 32
@@ -39,3 +42,6 @@ func Read(text string) (Digest, bool) {
 	}
 	return d, true
 }
+
+// Compare orders digests as their texts are ordered.
+func Compare(a, b Digest) int { return bytes.Compare(a[:], b[:]) }

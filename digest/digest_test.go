@@ -1,6 +1,7 @@
 package digest
 
 import (
+	"cmp"
 	"math/big"
 	"strings"
 	"testing"
@@ -86,6 +87,17 @@ func TestReadOfNoDigest(t *testing.T) {
 			text := good[:at] + string([]byte{byte(b)}) + good[at+1:]
 			if _, ok := Read(text); ok != strings.Contains("0123456789abcdef", string([]byte{byte(b)})) {
 				t.Errorf("Read(%q) = %v", text, ok)
+			}
+		}
+	}
+}
+
+func TestCompare(t *testing.T) {
+	digests := []Digest{{}, {31: 1}, {30: 1}, {0: 9}, {0: 0x10}, {0: 0x9f}, {0: 0xa0}, {0: 0xff}, {0: 0xff, 31: 0xff}}
+	for i, a := range digests {
+		for k, b := range digests {
+			if got := Compare(a, b); got != cmp.Compare(i, k) || got != cmp.Compare(a.Text(), b.Text()) {
+				t.Errorf("Compare of %s and %s = %d", a.Text(), b.Text(), got)
 			}
 		}
 	}

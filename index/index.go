@@ -25,7 +25,7 @@ func Check(tags []api.Tag) ([]Entry, bool) {
 	last := "" // below every tag
 	for _, t := range tags {
 		d, ok := digest.Read(t.Digest)
-		if !ok || !isTag(t.Name) || t.Name <= last || !isSize(t.Size) {
+		if !ok || !IsTag(t.Name) || t.Name <= last || !isSize(t.Size) {
 			return nil, false
 		}
 		entries = append(entries, Entry{t.Name, d, t.Size})
@@ -57,7 +57,8 @@ func Print(entries []Entry) string {
 	return text.String()
 }
 
-func isTag(name string) bool {
+// IsTag says whether a name is a tag.
+func IsTag(name string) bool {
 	if len(name) < 1 || len(name) > api.MaxTag || !isSmallOrDigit(name[0]) {
 		return false
 	}

@@ -90,7 +90,7 @@ func (s *scanner) entry(first token, last string) Entry {
 
 func (s *scanner) tag(last string) string {
 	t := s.next()
-	t.must(t.kind == kindString && isTag(t.text) && t.text > last)
+	t.must(t.kind == kindString && IsTag(t.text) && t.text > last)
 	return t.text
 }
 
