@@ -47,6 +47,14 @@ func (d *Disk) Used() int {
 	return used
 }
 
+// Fit refuses, if so many bytes are more than there is room for on the disk when it has no files.
+func (d *Disk) Fit(n int) error {
+	if n > d.room {
+		return &StepError{"Fit", Refusal(api.ErrSpace)}
+	}
+	return nil
+}
+
 // Steps tells how many steps were taken.
 func (d *Disk) Steps() int { return d.steps }
 

@@ -26,6 +26,7 @@ func refusals(d *Disk) map[string]struct {
 		"Read":     {read, api.ErrFile},
 		"Spoil":    {d.Spoil("a", 3, 1), api.ErrArg},
 		"Break":    {d.Break(-1), api.ErrArg},
+		"Fit":      {d.Fit(11), api.ErrSpace},
 	}
 }
 
@@ -59,5 +60,23 @@ func TestAStepThatIsTakenHasNoError(t *testing.T) {
 	}
 	if d.Steps() != 6 {
 		t.Errorf("Steps = %d, want 6", d.Steps())
+	}
+}
+
+// What is on the disk does not count, as it can be removed.
+func TestFitIsOfTheWholeRoom(t *testing.T) {
+	d := New(10)
+	for _, b := range []string{"", "0123456789"} {
+		if err := d.Append("a", b); err != nil {
+			t.Fatal(err)
+		}
+		for n, fits := range map[int]bool{0: true, 9: true, 10: true, 11: false} {
+			if err := d.Fit(n); (err == nil) != fits {
+				t.Errorf("Fit(%d) = %v", n, err)
+			}
+		}
+	}
+	if err := New(-1).Fit(0); err != nil {
+		t.Errorf("Fit(0) without room = %v", err)
 	}
 }

@@ -17,12 +17,12 @@ func (s *Store) Put(b string) (digest.Digest, error) {
 // Publish keeps a content and lets a tag name it.
 func (s *Store) Publish(name string, b string) (digest.Digest, error) {
 	d := digest.Of(b)
-	return d, s.keep(d, b, s.tagsWith(name, d, len(b)))
+	return d, s.keep(d, b, s.tagsWith(name, d))
 }
 
 // Tag lets a tag name a content that is there.
 func (s *Store) Tag(name string, d digest.Digest) error {
-	return s.change(nil, s.tagsWith(name, d, s.Size(d)))
+	return s.change(nil, sized(s.tagsWith(name, d), d, s.Size(d)))
 }
 
 // Untag forgets a tag.
@@ -66,20 +66,35 @@ func (s *Store) endPruning(untagged []digest.Digest) error {
 	return s.disk.SyncDir()
 }
 
-func (s *Store) tagsWith(name string, d digest.Digest, size int) map[string]index.Entry {
+// tagsWith is the tags there are and one that names this content, whose size is yet to be told.
+func (s *Store) tagsWith(name string, d digest.Digest) map[string]index.Entry {
 	tags := maps.Clone(s.tags)
 	name = strings.Clone(name) // the caller's string may be a piece of a far longer one, which is not to be kept
-	tags[name] = index.Entry{Name: name, Digest: d, Size: size}
+	tags[name] = index.Entry{Name: name, Digest: d}
 	return tags
 }
 
-// keep lets the store have a content, if it is not there or spoilt, and these tags.
+// sized is these tags, of which all that name this content tell this size.
+func sized(tags map[string]index.Entry, d digest.Digest, size int) map[string]index.Entry {
+	all := maps.Clone(tags)
+	for name, e := range tags {
+		if e.Digest == d {
+			e.Size = size
+			all[name] = e
+		}
+	}
+	return all
+}
+
+// keep lets the store have a content, if it is not there or spoilt, and these tags. Two contents may have one digest: so the size is that of the content whose bytes the file has in the end, and a file that is written anew may have another length than the tags tell that were there.
 func (s *Store) keep(d digest.Digest, b string, tags map[string]index.Entry) error {
 	var files []file
-	if _, whole := s.Content(d); !whole {
+	content, whole := s.Content(d)
+	if !whole {
+		content = b
 		files = append(files, file{contentPath(d), b})
 	}
-	if err := s.change(files, tags); err != nil {
+	if err := s.change(files, sized(tags, d, len(content))); err != nil {
 		return err
 	}
 	s.contents[d] = struct{}{}

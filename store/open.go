@@ -26,12 +26,16 @@ func (s *Store) isThere(path string) bool {
 	return err == nil
 }
 
-// begin makes an empty store. The layout comes last: as long as it is not there, no Open has come to its end, and what is there is nothing.
+// begin makes an empty store. The layout comes last: as long as it is not there, no Open has come to its end, and what is there is nothing. Whether there is room is asked ahead of the first step, as what is removed can't be brought back.
 func (s *Store) begin() error {
+	indexText := index.Print(nil)
+	if err := s.disk.Fit(len(indexText) + len(layoutText)); err != nil {
+		return err
+	}
 	if err := s.removeAll(func(path string) bool { return true }); err != nil {
 		return err
 	}
-	return s.write([]file{{journalPath, ""}, {indexPath, index.Print(nil)}, {layoutPath, layoutText}})
+	return s.write([]file{{journalPath, ""}, {indexPath, indexText}, {layoutPath, layoutText}})
 }
 
 // goOn reads the store that is there, and ends or takes back what was under way when the disk broke. It writes no bytes, so that no want of room can stop it.

@@ -9,6 +9,7 @@ import (
 	"blobs/api"
 	"blobs/digest"
 	"blobs/disk"
+	"blobs/index"
 )
 
 func open(t *testing.T, d *disk.Disk) *Store {
@@ -32,7 +33,7 @@ func wantStep(t *testing.T, err error, step string, why api.Errno) {
 
 func TestARefusedStepIsToldWithItsName(t *testing.T) {
 	_, err := Open(disk.New(len(layoutText)))
-	wantStep(t, err, "Append", api.ErrSpace)
+	wantStep(t, err, "Fit", api.ErrSpace)
 	d := disk.New(100)
 	s := open(t, d)
 	_, err = s.Put(strings.Repeat("x", 100))
@@ -91,6 +92,96 @@ func TestDigestAt(t *testing.T) {
 		if got, ok := digestAt(path); ok || got != (digest.Digest{}) {
 			t.Errorf("digestAt(%s) = %v, %v", path, got, ok)
 		}
+	}
+}
+
+// twins is a store with a long content that a tag names. No two contents with one digest are known, so the tests that need them hand in another one under its digest.
+func twins(t *testing.T) (d *disk.Disk, s *Store, both digest.Digest) {
+	t.Helper()
+	d = disk.New(1000)
+	s = open(t, d)
+	both, err := s.Publish("old", "the longer one")
+	if err != nil {
+		t.Fatal(err)
+	}
+	return d, s, both
+}
+
+// wantSizes: the tags, in the store and in the file with its index, tell the length of the content's file, which has these bytes.
+func wantSizes(t *testing.T, d *disk.Disk, s *Store, both digest.Digest, want string, names ...string) {
+	t.Helper()
+	if b, err := d.Read(contentPath(both)); b != want || err != nil {
+		t.Errorf("the file has %q, %v, want %q", b, err, want)
+	}
+	var entries []index.Entry
+	for _, name := range names {
+		entries = append(entries, index.Entry{Name: name, Digest: both, Size: len(want)})
+	}
+	for _, x := range []*Store{s, open(t, d)} {
+		if l := x.Tags(); !slices.Equal(l, entries) {
+			t.Errorf("P13: the tags are %v, want %v", l, entries)
+		}
+	}
+	if text, _ := d.Read(indexPath); text != index.Print(entries) {
+		t.Errorf("P9: the index is %s, want %s", text, index.Print(entries))
+	}
+}
+
+func TestPublishOfAnotherContentWithTheDigestOfOneThatIsThere(t *testing.T) {
+	for _, name := range []string{"new", "old"} {
+		d, s, both := twins(t)
+		if err := s.keep(both, "a shorter", s.tagsWith(name, both)); err != nil {
+			t.Fatal(err)
+		}
+		wantSizes(t, d, s, both, "the longer one", slices.Compact([]string{name, "old"})...)
+	}
+}
+
+// The file that was there is spoilt, so the one that is put in its place is the content, for the tags that named it before, too.
+func TestAnotherContentInPlaceOfOneThatIsSpoilt(t *testing.T) {
+	for _, names := range [][]string{{"old"}, {"new", "old"}} {
+		d, s, both := twins(t)
+		if err := d.Spoil(contentPath(both), 0, 1); err != nil {
+			t.Fatal(err)
+		}
+		tags := s.tags
+		if len(names) > 1 {
+			tags = s.tagsWith(names[0], both)
+		}
+		if err := s.keep(both, "a shorter", tags); err != nil {
+			t.Fatal(err)
+		}
+		wantSizes(t, d, s, both, "a shorter", names...)
+	}
+}
+
+// A size is told by the tags of this content alone.
+func TestOtherTagsKeepTheirSizes(t *testing.T) {
+	_, s, both := twins(t)
+	if _, err := s.Publish("other", "xyz"); err != nil {
+		t.Fatal(err)
+	}
+	if err := s.Tag("more", both); err != nil {
+		t.Fatal(err)
+	}
+	for name, size := range map[string]int{"more": 14, "old": 14, "other": 3} {
+		if e := s.tags[name]; e.Size != size {
+			t.Errorf("P12: the tag %s tells the size %d, want %d", name, e.Size, size)
+		}
+	}
+}
+
+// What is refused changes nothing, not even what a torn Open has left.
+func TestOpenWithTooLittleRoomTouchesNothing(t *testing.T) {
+	d := disk.New(len(layoutText))
+	if err := d.Append(besidePath(0), "x"); err != nil {
+		t.Fatal(err)
+	}
+	if s, err := Open(d); s != nil || err == nil {
+		t.Errorf("P9: Open = %v, %v, want a refusal", s, err)
+	}
+	if l := d.List(); !slices.Equal(l, []string{besidePath(0)}) || d.Steps() != 1 {
+		t.Errorf("P1: the files are %q behind %d steps", l, d.Steps())
 	}
 }
 
